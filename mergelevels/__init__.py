@@ -1,0 +1,1 @@
+"""Mergelevels: levels at which items join."""

@@ -1,0 +1,159 @@
+"""Tables, values and plain searches that the tests share."""
+
+import itertools
+import random
+
+from mergelevels.errors import NoSuchItem, SameItem
+
+TOP = 10 ** 12
+
+T = ((), (4,), (6, 2), (6, 6, 3))
+U = ((), (4,), (4, 2), (4, 3, 3))
+ONE = ((),)
+TWO = ((), (5,))
+# Two cheap chains, 0-2-4-6-8-10 and 1-3-5-7-9-11, with one expensive bridge from 0 to 11.
+TWELVE = tuple(
+    tuple(1 if i - j == 2 else 7 if (i, j) == (11, 0) else TOP for j in range(i)) for i in range(12)
+)
+EQUAL_TWELVE = tuple(tuple(3 for j in range(i)) for i in range(12))
+NESTED_TWELVE = tuple(tuple(10 * i for j in range(i)) for i in range(12))
+
+# Values of all the kinds that may stand where any value is accepted.
+ODD_VALUES = (
+    None, True, False, 0, 1, -1, 5, 10 ** 30 - 1, -(10 ** 30 - 1), "", "a", "((),)", "x" * 400, "a\nb",
+    (), [], {}, [()], [(), (4,)], [[], [4]], {"a": 1}, {"": ((),)}, (None,), (True,), (0,), ("",),
+    (((),),), ([],), ({},), ("a", "b"), ((0, 1), (0,), (1,)),
+)
+
+
+def deep(depth, kind=tuple):
+    """A value that is nested so deep."""
+    value = kind()
+    for _ in range(depth):
+        value = kind([value])
+    return value
+
+
+def non_items(count):
+    """Values that are not items of a table with count items."""
+    return [
+        count, count + 1, -1, -count, 10 ** 30 - 1, True, False, None, "0", "", "item",
+        [], [0], (), (0,), (0, 1), {}, {"0": 0}, deep(40), deep(40, list),
+    ]
+
+
+def table_from(count, levels):
+    """The table whose rows contain the levels, one row after the other."""
+    rest = iter(levels)
+    return tuple(tuple(next(rest) for _ in range(i)) for i in range(count))
+
+
+def all_tables(count, top):
+    """All tables with count items and levels from 1 to top."""
+    size = count * (count - 1) // 2
+    return [table_from(count, levels) for levels in itertools.product(range(1, top + 1), repeat=size)]
+
+
+def random_tables(seed, many, counts, top):
+    """Tables that look random, but are the same in each run."""
+    source = random.Random(seed)
+    tables = []
+    for _ in range(many):
+        count = source.choice(counts)
+        tables.append(tuple(tuple(source.randint(1, top) for _ in range(i)) for i in range(count)))
+    return tables
+
+
+def small_tables():
+    """Tables that are small enough for a search over all paths."""
+    few = all_tables(1, 1) + all_tables(2, 3) + all_tables(3, 3)
+    return few + random_tables(1, 60, (4, 5), 4) + random_tables(2, 12, (6,), 6) + random_tables(3, 6, (6,), TOP)
+
+
+def pairs(table):
+    """All pairs, ascending."""
+    return list(itertools.combinations(range(len(table)), 2))
+
+
+def plain_level(table, one, other):
+    """The level between two items."""
+    return 0 if one == other else table[one][other] if other < one else table[other][one]
+
+
+def plain_height(table, path):
+    """The greatest step of a path."""
+    return max([0] + [plain_level(table, path[k], path[k + 1]) for k in range(len(path) - 1)])
+
+
+def plain_width(table, division):
+    """The least level between an item of the division and another item."""
+    outside = set(range(len(table))) - set(division)
+    return min(plain_level(table, one, other) for one in division for other in outside)
+
+
+def all_paths(table, one, other):
+    """All paths from one item to another or to itself."""
+    if one == other:
+        return [(one,)]
+    between = [item for item in range(len(table)) if item not in (one, other)]
+    return [
+        (one, *middle, other)
+        for size in range(len(between) + 1)
+        for middle in itertools.permutations(between, size)
+    ]
+
+
+def all_divisions(table):
+    """All divisions."""
+    count = len(table)
+    return [part for size in range(1, count) for part in itertools.combinations(range(count), size)]
+
+
+def plain_join(table, one, other):
+    """The joining level, by a search over all paths."""
+    return min(plain_height(table, path) for path in all_paths(table, one, other))
+
+
+def plain_nested(table):
+    """Whether the greatest level of any three items occurs twice."""
+    for trio in itertools.combinations(range(len(table)), 3):
+        levels = [plain_level(table, one, other) for one, other in itertools.combinations(trio, 2)]
+        if levels.count(max(levels)) < 2:
+            return False
+    return True
+
+
+def is_lower(one, other):
+    """Whether no level of one table is greater than that of the other one."""
+    return all(x <= y for row, upper in zip(one, other) for x, y in zip(row, upper))
+
+
+class ItemChecks:
+    """Checks of the errors that functions of two items raise."""
+
+    def assert_field(self, error_class, value, function, *arguments):
+        """The call raises the error, with this very value as its item."""
+        with self.assertRaises(error_class) as caught:
+            function(*arguments)
+        self.assertIs(caught.exception.__class__, error_class)
+        self.assertIs(caught.exception.item, value)
+
+    def check_no_items(self, function, *rest):
+        """Values that are no items, in the first place, in the second one and in both."""
+        for table in (ONE, TWO, T, TWELVE):
+            for bad in non_items(len(table)):
+                for good in range(len(table)):
+                    with self.subTest(count=len(table), bad=bad, good=good):
+                        self.assert_field(NoSuchItem, bad, function, table, bad, good, *rest)
+                        self.assert_field(NoSuchItem, bad, function, table, good, bad, *rest)
+                for worse in ([len(table)], "z", len(table) + 7):
+                    self.assert_field(NoSuchItem, bad, function, table, bad, worse, *rest)
+                    self.assert_field(NoSuchItem, worse, function, table, worse, bad, *rest)
+                self.assert_field(NoSuchItem, bad, function, table, bad, bad, *rest)
+
+    def check_same_item(self, function, *rest):
+        """The same item twice."""
+        for table in (ONE, TWO, T, TWELVE):
+            for item in range(len(table)):
+                with self.subTest(count=len(table), item=item):
+                    self.assert_field(SameItem, item, function, table, item, item, *rest)

@@ -1,0 +1,190 @@
+"""Checks of the form of the package that a script can make: the main rules of its Python subset.
+
+The numbers are those of the rules. The checks are stricter than the rules in places, and they do not
+replace reading them.
+"""
+
+import ast
+import pathlib
+import re
+import unittest
+
+FOLDER = pathlib.Path(__file__).resolve().parent.parent / "mergelevels"
+NAME = "mergelevels"
+
+BUILTINS = """
+    len range enumerate zip min max sum abs sorted reversed int str bool list tuple dict set isinstance ord repr
+    any all divmod iter next Exception ValueError TypeError KeyError IndexError LookupError ZeroDivisionError
+    ArithmeticError OverflowError RuntimeError NotImplementedError NotImplemented super property staticmethod
+    classmethod
+""".split()
+DUNDERS = """
+    __init__ __eq__ __repr__ __str__ __len__ __enter__ __exit__ __call__ __iter__ __contains__ __slots__
+""".split()
+WORDS = """
+    type typing typing_extensions enum Enum IntEnum StrEnum Flag IntFlag Generic Protocol ABC ABCMeta namedtuple
+    NamedTuple TypedDict TYPE_CHECKING abstractmethod
+""".split()
+BARRED = """
+    register mro elements open input version_info with_traceback add_note attrgetter breakpoint builtins compile
+    copyright credits delattr dir eval exec exit gc getattr globals hasattr help id importlib license locals
+    methodcaller os quit setattr vars sys format format_map hash map round filter object float
+""".split()
+METHODS = """
+    append clear copy count endswith extend find get index insert isalnum isalpha isdigit islower isspace isupper
+    items join keys ljust lower lstrip partition pop remove replace reverse rfind rjust rpartition rsplit rstrip
+    setdefault split splitlines startswith strip update upper values zfill bit_length add discard
+""".split()
+# Once a class has __eq__ or an operator, these take lists only (L5, L7).
+TAKE_LISTS = ("any", "all", "min", "max", "sum", "sorted")
+BARRED_NODES = (
+    ast.Global, ast.AsyncFunctionDef, ast.AsyncFor, ast.AsyncWith, ast.Await, ast.Div, ast.MatMult, ast.Import,
+    ast.AnnAssign,
+)
+
+
+def files():
+    """The paths of all files of the package."""
+    return sorted(path for path in FOLDER.rglob("*") if "__pycache__" not in path.parts)
+
+
+def trees():
+    """(file name, tree) for each file."""
+    return [(path.name, ast.parse(path.read_text())) for path in files()]
+
+
+def nodes(kind):
+    """(place, node) for all nodes of a kind in all files."""
+    return [
+        (f"{name}:{getattr(node, 'lineno', 0)}", node)
+        for name, tree in trees() for node in ast.walk(tree) if isinstance(node, kind)
+    ]
+
+
+def defined(tree):
+    """The names that a module defines itself, not by imports."""
+    names = []
+    for node in tree.body:
+        if isinstance(node, (ast.FunctionDef, ast.ClassDef)):
+            names.append(node.name)
+        elif isinstance(node, ast.Assign):
+            names += [target.id for target in node.targets]
+    return names
+
+
+def imported(tree):
+    """The nodes of the imports of a module."""
+    return [node for node in ast.walk(tree) if isinstance(node, ast.ImportFrom)]
+
+
+class TestForm(unittest.TestCase):
+    def test_files(self):
+        """L1, L10, L14."""
+        self.assertIn("__init__.py", [path.name for path in files()])
+        for path in files():
+            self.assertRegex(path.name, r"^[a-z0-9_]+\.py$")
+            text = path.read_bytes().decode("ascii")
+            self.assertRegex(text, r"\A[\n -~]*\Z")
+            lines = text.split("\n")
+            self.assertLessEqual(len(lines), 400, path.name)
+            self.assertLessEqual(max(len(line) for line in lines), 120, path.name)
+
+    def test_functions(self):
+        """L4, L5, L10."""
+        for place, node in nodes(ast.FunctionDef):
+            self.assertLessEqual(node.end_lineno - node.lineno + 1, 40, place)
+            self.assertFalse(node.args.posonlyargs, place)
+
+    def test_words(self):
+        """L17, L27."""
+        for path in files():
+            text = path.read_text()
+            found = set(re.findall(r"[A-Za-z0-9_]+", text)) & set(WORDS)
+            self.assertFalse(found, path.name)
+            self.assertNotRegex(text, "dataclass|overload|contextmanager|%")
+            self.assertFalse(set(re.findall(r"\\(.)", text)) - set("nt\\\"'"), path.name)
+
+    def test_nodes(self):
+        """L6, L7, L21."""
+        self.assertEqual([place for place, node in nodes(BARRED_NODES)], [])
+        for place, node in nodes(ast.Constant):
+            self.assertNotIsInstance(node.value, (float, complex), place)
+
+    def test_module_level(self):
+        """L3, L15."""
+        for name, tree in trees():
+            allowed = (ast.FunctionDef, ast.ClassDef, ast.Assign, ast.ImportFrom)
+            self.assertIsNotNone(ast.get_docstring(tree), name)
+            for node in tree.body[1:]:
+                self.assertIsInstance(node, allowed, name)
+            bound = defined(tree) + [alias.asname or alias.name for node in imported(tree) for alias in node.names]
+            self.assertEqual(len(bound), len(set(bound)), name)
+
+    def test_imports(self):
+        """L2, L16."""
+        homes = {f"{NAME}.{name[:-3]}": tree for name, tree in trees()}
+        above = {}
+        for home, tree in homes.items():
+            above[home] = [node.module for node in imported(tree)]
+            for node in imported(tree):
+                self.assertEqual(node.level, 0, home)
+                for alias in node.names:
+                    self.assertIn(alias.name, defined(homes[node.module]), home)
+        done = []
+        while len(done) < len(homes):
+            ready = [home for home in homes if home not in done and set(above[home]) <= set(done)]
+            self.assertTrue(ready, "files import each other")
+            done += ready
+
+    def test_names(self):
+        """L8, L12, L15, L17."""
+        for name, tree in trees():
+            taken = {alias.name for node in imported(tree) for alias in node.names}
+            taken |= {node.name for node in tree.body if isinstance(node, ast.ClassDef)}
+            known = set(defined(tree)) | taken | set(BUILTINS)
+            bound = [node.arg for node in ast.walk(tree) if isinstance(node, ast.arg)]
+            loads = []
+            for node in ast.walk(tree):
+                if isinstance(node, ast.Name):
+                    (loads if isinstance(node.ctx, ast.Load) else bound).append(node.id)
+                if isinstance(node, (ast.FunctionDef, ast.ClassDef)) and node.name not in DUNDERS:
+                    self.assertRegex(node.name, "^[A-Za-z]", name)
+                    self.assertNotIn(node.name, BARRED, name)
+                if isinstance(node, ast.ExceptHandler) and node.name:
+                    bound.append(node.name)
+                if isinstance(node, ast.FunctionDef):
+                    known.add(node.name)
+            for word in bound:
+                self.assertRegex(word, "^[A-Za-z]", name)
+                self.assertNotIn(word, BARRED + BUILTINS, name)
+                self.assertNotIn(word, taken, name)
+            self.assertEqual(set(loads) - set(bound) - known, set(), name)
+
+    def test_methods(self):
+        """L18, L25."""
+        own = {node.name for place, node in nodes(ast.FunctionDef)}
+        stored = {node.attr for place, node in nodes(ast.Attribute) if isinstance(node.ctx, ast.Store)}
+        for place, node in nodes(ast.Attribute):
+            self.assertIn(node.attr, own | stored | set(METHODS), place)
+        for place, node in nodes(ast.ClassDef):
+            methods = {part.name for part in node.body if isinstance(part, ast.FunctionDef)}
+            self.assertFalse(methods & stored, place)
+            self.assertFalse({word for word in methods if word.startswith("_")} - set(DUNDERS), place)
+
+    def test_lists_instead_of_generators(self):
+        """L5, L7."""
+        for place, node in nodes(ast.Call):
+            if isinstance(node.func, ast.Name) and node.func.id in TAKE_LISTS:
+                for argument in node.args:
+                    self.assertNotIsInstance(argument, ast.GeneratorExp, place)
+
+    def test_is(self):
+        """L20."""
+        for place, node in nodes(ast.Compare):
+            for sign, right in zip(node.ops, node.comparators):
+                if isinstance(sign, (ast.Is, ast.IsNot)):
+                    self.assertIn(ast.dump(right), [ast.dump(ast.Constant(x)) for x in (None, True, False)], place)
+
+
+if __name__ == "__main__":
+    unittest.main()
