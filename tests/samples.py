@@ -1,7 +1,9 @@
 """Tables, values and plain searches that the tests share."""
 
+import contextlib
 import itertools
 import random
+import signal
 
 from mergelevels.errors import NoSuchItem, SameItem
 
@@ -62,6 +64,30 @@ def random_tables(seed, many, counts, top):
         count = source.choice(counts)
         tables.append(tuple(tuple(source.randint(1, top) for _ in range(i)) for i in range(count)))
     return tables
+
+
+def drawn_nested(seed, many, counts, top):
+    """Nested tables that look random, but are the same in each run: groups join until all are one."""
+    source = random.Random(seed)
+    tables = []
+    for _ in range(many):
+        count = source.choice(counts)
+        rows = [[0] * i for i in range(count)]
+        groups = [[item] for item in range(count)]
+        for level in sorted(source.randint(1, top) for _ in range(count - 1)):
+            one = groups.pop(source.randrange(len(groups)))
+            other = groups.pop(source.randrange(len(groups)))
+            for low, high in itertools.product(one, other):
+                rows[max(low, high)][min(low, high)] = level
+            groups.append(one + other)
+        tables.append(tuple(tuple(row) for row in rows))
+    return tables
+
+
+def large_tables():
+    """Tables of eleven and twelve items: with equal levels, nested ones, and others."""
+    drawn = random_tables(7, 4, (11, 12), 30) + random_tables(17, 2, (12,), 3) + random_tables(18, 2, (12,), TOP)
+    return [TWELVE, EQUAL_TWELVE, NESTED_TWELVE] + drawn + drawn_nested(19, 4, (11, 12), 6)
 
 
 def small_tables():
@@ -126,6 +152,80 @@ def plain_nested(table):
 def is_lower(one, other):
     """Whether no level of one table is greater than that of the other one."""
     return all(x <= y for row, upper in zip(one, other) for x, y in zip(row, upper))
+
+
+def plain_groups(table, level):
+    """The groups at a level, by walking along all steps that are not greater."""
+    groups = []
+    for start in range(len(table)):
+        if not any(start in group for group in groups):
+            group = [start]
+            for item in group:
+                # The list grows while the loop walks through it.
+                group += [
+                    other for other in range(len(table))
+                    if other not in group and plain_level(table, item, other) <= level
+                ]
+            groups.append(tuple(sorted(group)))
+    return tuple(sorted(groups))
+
+
+def plain_clusters(table):
+    """The set of the groups of at least two items at the levels of the table: there are no others elsewhere."""
+    levels = {level for row in table for level in row}
+    return {group for level in levels for group in plain_groups(table, level) if len(group) >= 2}
+
+
+def plain_connected(count, links):
+    """Whether the pairs connect all items from 0 to count - 1."""
+    reached = [0]
+    for item in reached:
+        for link in links:
+            if item in link:
+                reached += [end for end in link if end not in reached]
+    return len(reached) == count
+
+
+def all_spanning_trees(count):
+    """All spanning trees of count items, ascending."""
+    links = list(itertools.combinations(range(count), 2))
+    return [tree for tree in itertools.combinations(links, count - 1) if plain_connected(count, tree)]
+
+
+def plain_sum(table, tree):
+    """The sum of the levels of the pairs."""
+    return sum(plain_level(table, one, other) for one, other in tree)
+
+
+def plain_deviation(table, near):
+    """The greatest difference of two levels at the same place."""
+    return max([0] + [abs(plain_level(table, *pair) - plain_level(near, *pair)) for pair in pairs(table)])
+
+
+@contextlib.contextmanager
+def time_limit(seconds):
+    """Fails if the rows inside take longer, instead of waiting for them."""
+    def stop(number, frame):
+        raise AssertionError(f"not finished after {seconds} seconds")
+
+    before = signal.signal(signal.SIGALRM, stop)
+    signal.alarm(seconds)
+    try:
+        yield
+    finally:
+        signal.alarm(0)
+        signal.signal(signal.SIGALRM, before)
+
+
+class KindChecks:
+    """Checks of the kinds of results."""
+
+    def assert_tuples(self, value):
+        """The value consists of tuples and integers only, all through."""
+        self.assertIn(value.__class__, (tuple, int))
+        if isinstance(value, tuple):
+            for part in value:
+                self.assert_tuples(part)
 
 
 class ItemChecks:

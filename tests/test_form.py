@@ -37,6 +37,10 @@ METHODS = """
 """.split()
 # Once a class has __eq__ or an operator, these take lists only (L5, L7).
 TAKE_LISTS = ("any", "all", "min", "max", "sum", "sorted")
+# What these return is iterated at once (L23): by a loop, a comprehension, or one of the builtins below.
+ONE_PASS = ("zip", "enumerate", "reversed", "range", "items", "keys", "values")
+TAKE_PASSES = ("list", "tuple", "dict", "sorted", "sum", "any", "all", "enumerate", "zip", "min", "max")
+SETS = (ast.Set, ast.SetComp)
 BARRED_NODES = (
     ast.Global, ast.AsyncFunctionDef, ast.AsyncFor, ast.AsyncWith, ast.Await, ast.Div, ast.MatMult, ast.Import,
     ast.AnnAssign,
@@ -59,6 +63,28 @@ def nodes(kind):
         (f"{name}:{getattr(node, 'lineno', 0)}", node)
         for name, tree in trees() for node in ast.walk(tree) if isinstance(node, kind)
     ]
+
+
+def called_name(node):
+    """The name of the function or method that a node calls, None if it is no call."""
+    if not isinstance(node, ast.Call):
+        return None
+    return node.func.id if isinstance(node.func, ast.Name) else getattr(node.func, "attr", None)
+
+
+def parts_of(kinds, *fields):
+    """The nodes that stand in these fields of the nodes of these kinds."""
+    found = []
+    for place, node in nodes(kinds):
+        for field in fields:
+            part = getattr(node, field)
+            found += part if isinstance(part, list) else [part]
+    return [shown(part) for part in found]
+
+
+def shown(node):
+    """A text by which a node is found again in another tree of the same file."""
+    return ast.dump(node, include_attributes=True)
 
 
 def defined(tree):
@@ -177,6 +203,36 @@ class TestForm(unittest.TestCase):
             if isinstance(node.func, ast.Name) and node.func.id in TAKE_LISTS:
                 for argument in node.args:
                     self.assertNotIsInstance(argument, ast.GeneratorExp, place)
+
+    def test_iterated_at_once(self):
+        """L23, for builtins and for the generators of the package."""
+        generators = {
+            node.name for place, node in nodes(ast.FunctionDef)
+            if any(isinstance(part, (ast.Yield, ast.YieldFrom)) for part in ast.walk(node))
+        }
+        places = parts_of((ast.For, ast.comprehension), "iter") + parts_of(ast.YieldFrom, "value")
+        for place, node in nodes(ast.Call):
+            if called_name(node) in TAKE_PASSES:
+                places += [shown(part) for part in node.args]
+        for place, node in nodes(ast.Call):
+            if called_name(node) in ONE_PASS or called_name(node) in generators:
+                self.assertIn(shown(node), places, place)
+        for place, node in nodes(ast.FunctionDef):
+            if node.name in generators:
+                returns = [part for part in ast.walk(node) if isinstance(part, ast.Return)]
+                self.assertTrue(all(part.value is None for part in returns), place)
+                self.assertFalse([part for part in ast.walk(node) if isinstance(part, (ast.Try, ast.With))], place)
+
+    def test_sets(self):
+        """L24, without stored sets."""
+        places = []
+        for place, node in nodes(ast.Call):
+            if called_name(node) in ("sorted", "len"):
+                places += [shown(part) for part in node.args]
+        places += parts_of(ast.Compare, "comparators")
+        for place, node in nodes(SETS + (ast.Call,)):
+            if isinstance(node, SETS) or called_name(node) in ("set", "frozenset"):
+                self.assertIn(shown(node), places, place)
 
     def test_is(self):
         """L20."""
