@@ -1,6 +1,6 @@
 """Groups of items at a level, the clusters among them, and the joins by which they arise."""
 
-from mergelevels.below import join_grid
+from mergelevels.below import is_path, join_grid
 
 
 def group_of(grid, item, level):
@@ -30,6 +30,12 @@ def clusters_of(table):
     return tuple(sorted({
         group for level in steps_of(grid) for group in all_groups(grid, level) if len(group) > 1
     }))
+
+
+def is_cluster(table, value):
+    """Whether the value is a cluster of the table."""
+    # Each cluster is a tuple of different items. For Python True equals 1, so that the comparison alone is not enough.
+    return is_path(table, value) and value in clusters_of(table)
 
 
 def joins_of(table):

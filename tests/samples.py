@@ -1,6 +1,7 @@
 """Tables, values and plain searches that the tests share."""
 
 import contextlib
+import copy
 import itertools
 import random
 import signal
@@ -36,12 +37,31 @@ def deep(depth, kind=tuple):
     return value
 
 
+# Further ones: nested forty deep, with many parts, and values that the package itself takes and returns.
+ANY_VALUES = ODD_VALUES + (
+    deep(40), deep(40, list), {"a": deep(38, list)}, (0,) * 4000, [None] * 4000, "line\n" * 80,
+    T, list(T), [list(row) for row in T], (0, 1), (0, 1, 2), (0, (1,)), ((0, 1), (1, 2)), (0, 1, (0, 1)),
+    ((1, 0), "level"), ("drop", 0), [("drop", 0)], ("begin", 1), (2, 0, 1), (3, (2, 0, 1), 2),
+    2, 11, 12, 13, 60, TOP, TOP + 1, "drop", "items 1\n", "top",
+)
+
+
 def non_items(count):
     """Values that are not items of a table with count items."""
     return [
         count, count + 1, -1, -count, 10 ** 30 - 1, True, False, None, "0", "", "item",
         [], [0], (), (0,), (0, 1), {}, {"0": 0}, deep(40), deep(40, list),
     ]
+
+
+def non_levels():
+    """Values that are not levels."""
+    return [value for value in ANY_VALUES if not is_plain_level(value)] + [0, -TOP, TOP + 1, TOP + 7, "5", (5,), [5]]
+
+
+def is_plain_level(value):
+    """Whether a value is a level."""
+    return value.__class__ is int and 1 <= value <= TOP
 
 
 def table_from(count, levels):
@@ -202,6 +222,22 @@ def plain_deviation(table, near):
     return max([0] + [abs(plain_level(table, *pair) - plain_level(near, *pair)) for pair in pairs(table)])
 
 
+def opened(source, table, share):
+    """The table with None in the place of about so many of its levels in a hundred; source is a random.Random."""
+    return tuple(tuple(None if source.randrange(100) < share else level for level in row) for row in table)
+
+
+def drawn_open_tables(seed, many, counts, top):
+    """Open tables that look random, but are the same in each run; some of them have fillings, some have none."""
+    source = random.Random(seed)
+    tables = []
+    for number in range(many):
+        draw = random_tables if number % 3 == 0 else drawn_nested
+        table = draw(source.randrange(10 ** 6), 1, counts, top)[0]
+        tables.append(opened(source, table, (20, 50, 80)[number // 3 % 3]))
+    return tables
+
+
 @contextlib.contextmanager
 def time_limit(seconds):
     """Fails if the rows inside take longer, instead of waiting for them."""
@@ -226,6 +262,27 @@ class KindChecks:
         if isinstance(value, tuple):
             for part in value:
                 self.assert_tuples(part)
+
+
+class ErrorChecks:
+    """Checks of the errors of any functions."""
+
+    def assert_error(self, error_class, fields, function, *arguments, **named):
+        """The call raises the very error, with these values in its fields."""
+        before = copy.deepcopy(arguments)
+        with self.assertRaises(error_class) as caught:
+            function(*arguments, **named)
+        self.assertIs(caught.exception.__class__, error_class)
+        self.assertEqual(vars(caught.exception), fields)
+        self.assertEqual(arguments, before)
+
+    def assert_very(self, error_class, field, value, function, *arguments):
+        """The call raises the very error, with this very value in its only field."""
+        self.assert_error(error_class, {field: value}, function, *arguments)
+        try:
+            function(*arguments)
+        except error_class as error:
+            self.assertIs(getattr(error, field), value)
 
 
 class ItemChecks:

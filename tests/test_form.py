@@ -33,8 +33,13 @@ BARRED = """
 METHODS = """
     append clear copy count endswith extend find get index insert isalnum isalpha isdigit islower isspace isupper
     items join keys ljust lower lstrip partition pop remove replace reverse rfind rjust rpartition rsplit rstrip
-    setdefault split splitlines startswith strip update upper values zfill bit_length add discard
+    setdefault split splitlines startswith strip update upper values zfill bit_length
+    title capitalize swapcase casefold center expandtabs removeprefix removesuffix rindex isascii isdecimal isnumeric
+    istitle isidentifier isprintable
 """.split()
+MODIFYING = "append clear extend insert pop remove reverse setdefault update sort add discard".split()
+# What these call changes nothing (L5), and they themselves assign nothing (L28).
+STILL = ("__contains__", "__eq__", "__str__", "__repr__", "__len__")
 # Once a class has __eq__ or an operator, these take lists only (L5, L7).
 TAKE_LISTS = ("any", "all", "min", "max", "sum", "sorted")
 # What these return is iterated at once (L23): by a loop, a comprehension, or one of the builtins below.
@@ -80,6 +85,36 @@ def parts_of(kinds, *fields):
             part = getattr(node, field)
             found += part if isinstance(part, list) else [part]
     return [shown(part) for part in found]
+
+
+def functions():
+    """name -> nodes of the functions and methods with this name."""
+    found = {}
+    for place, node in nodes(ast.FunctionDef):
+        found.setdefault(node.name, []).append(node)
+    return found
+
+
+def decorators(node):
+    """The texts of the decorators of a function."""
+    return [ast.unparse(part) for part in node.decorator_list]
+
+
+def called_from(starts):
+    """The nodes of the functions and methods of the package that are reached from the given ones, these included."""
+    own = functions()
+    reached = list(starts)
+    for node in reached:
+        for part in ast.walk(node):
+            names = [called_name(part), getattr(part, "attr", None)]
+            reached += [other for name in names for other in own.get(name, []) if other not in reached]
+    return reached
+
+
+def own_errors():
+    """The names of the error classes of the package."""
+    tree = dict(trees())["errors.py"]
+    return [node.name for node in tree.body if isinstance(node, ast.ClassDef)]
 
 
 def shown(node):
@@ -190,12 +225,99 @@ class TestForm(unittest.TestCase):
         """L18, L25."""
         own = {node.name for place, node in nodes(ast.FunctionDef)}
         stored = {node.attr for place, node in nodes(ast.Attribute) if isinstance(node.ctx, ast.Store)}
+        values = {
+            target.id for place, node in nodes(ast.ClassDef) for part in node.body
+            if isinstance(part, ast.Assign) for target in part.targets
+        }
+        self.assertFalse(values & (own | stored))
         for place, node in nodes(ast.Attribute):
-            self.assertIn(node.attr, own | stored | set(METHODS), place)
+            self.assertIn(node.attr, own | stored | values | set(METHODS), place)
         for place, node in nodes(ast.ClassDef):
-            methods = {part.name for part in node.body if isinstance(part, ast.FunctionDef)}
+            names = [part.name for part in node.body if isinstance(part, ast.FunctionDef)]
+            methods = set(names)
+            self.assertEqual(len(names), len(methods), place)
             self.assertFalse(methods & stored, place)
             self.assertFalse({word for word in methods if word.startswith("_")} - set(DUNDERS), place)
+
+    def test_decorators(self):
+        """L4, L5."""
+        for place, node in nodes(ast.FunctionDef):
+            self.assertIn(decorators(node), ([], ["property"], ["staticmethod"], ["classmethod"]), place)
+            if decorators(node) == ["property"]:
+                self.assertEqual(ast.unparse(node.args), "self", place)
+                self.assertNotIn(node.name, METHODS, place)
+        for place, node in nodes(ast.ClassDef):
+            self.assertEqual(node.decorator_list, [], place)
+        properties = {node.name for place, node in nodes(ast.FunctionDef) if "property" in decorators(node)}
+        plain = {node.name for place, node in nodes(ast.FunctionDef) if "property" not in decorators(node)}
+        self.assertFalse(properties & plain)
+
+    def test_what_changes_nothing(self):
+        """L5: operators, properties, and all that they call; L28."""
+        starts = [
+            node for place, node in nodes(ast.FunctionDef) if node.name in STILL or "property" in decorators(node)
+        ]
+        self.assertGreater(len(starts), 6)
+        for node in called_from(starts):
+            lists = [
+                part.targets[0].id for part in ast.walk(node)
+                if isinstance(part, ast.Assign) and isinstance(part.value, ast.List)
+            ]
+            for part in ast.walk(node):
+                self.assertNotIsInstance(part, (ast.AugAssign, ast.Delete), node.name)
+                if isinstance(part, (ast.Attribute, ast.Subscript)):
+                    self.assertIsInstance(part.ctx, ast.Load, node.name)
+                if isinstance(part, ast.Call) and getattr(part.func, "attr", None) in MODIFYING:
+                    self.assertIn(ast.unparse(part.func.value), lists, node.name)
+        for node in starts:
+            self.assertIsInstance(node.body[-1], ast.Return, node.name)
+            if node.name in STILL:
+                self.assertFalse([part for part in ast.walk(node) if isinstance(part, ast.Assign)], node.name)
+
+    def test_errors(self):
+        """L19: only own errors are caught, and each one is created where it is raised."""
+        own = own_errors()
+        for place, node in nodes(ast.ExceptHandler):
+            caught = node.type.elts if isinstance(node.type, ast.Tuple) else [node.type]
+            for part in caught:
+                self.assertIn(ast.unparse(part), own, place)
+        for place, node in nodes(ast.Raise):
+            self.assertIn(called_name(node.exc), own, place)
+            self.assertIsInstance(node.cause, (ast.Name, type(None)), place)
+
+    def test_finally(self):
+        """L6, for the statements that occur."""
+        simple = (ast.Name, ast.Attribute, ast.Constant, ast.Tuple, ast.List, ast.expr_context)
+        for place, node in nodes(ast.Try):
+            for part in node.finalbody:
+                if isinstance(part, ast.Assign):
+                    self.assertEqual(len(part.targets), 1, place)
+                    inner = [part.targets[0], part.value]
+                else:
+                    self.assertEqual(called_name(part.value), "append", place)
+                    inner = part.value.args
+                for value in [value for tree in inner for value in ast.walk(tree)]:
+                    self.assertIsInstance(value, simple, place)
+
+    def test_classes(self):
+        """L18: a class is called, a base class, caught, raised, asked for in isinstance, or asked for a value."""
+        names = {node.name for place, node in nodes(ast.ClassDef)}
+        places = parts_of(ast.ClassDef, "bases") + parts_of(ast.Call, "func") + parts_of(ast.Attribute, "value")
+        for place, node in nodes(ast.ExceptHandler):
+            places += [shown(part) for part in ast.walk(node.type)]
+        for place, node in nodes(ast.Call):
+            if called_name(node) == "isinstance":
+                places += [shown(part) for part in ast.walk(node.args[1])]
+        for place, node in nodes(ast.Name):
+            if node.id in names:
+                self.assertIn(shown(node), places, place)
+
+    def test_generators_of_classes(self):
+        """L23: no generator is a property, a static or class method or a double-underscore method."""
+        for place, node in nodes(ast.FunctionDef):
+            if [part for part in ast.walk(node) if isinstance(part, (ast.Yield, ast.YieldFrom))]:
+                self.assertEqual(decorators(node), [], place)
+                self.assertFalse(node.name.startswith("_"), place)
 
     def test_lists_instead_of_generators(self):
         """L5, L7."""
