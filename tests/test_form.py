@@ -171,6 +171,12 @@ class TestForm(unittest.TestCase):
         for place, node in nodes(ast.Constant):
             self.assertNotIsInstance(node.value, (float, complex), place)
 
+    def test_powers(self):
+        """L27."""
+        for place, node in nodes(ast.BinOp):
+            if isinstance(node.op, ast.Pow):
+                self.assertIn(ast.unparse(node.right), [str(power) for power in range(65)], place)
+
     def test_module_level(self):
         """L3, L15."""
         for name, tree in trees():
