@@ -61,9 +61,10 @@ def answer(board, word, numbers):
         return str(board.cut)
     if word == "groups":
         return groups_text(board.groups)
+    table = board.table()
     if word == "tree":
-        return format_tree(tree_of(board.table()))
-    return answer_about(board.table(), word, *numbers)
+        return format_tree(tree_of(table))
+    return answer_about(table, word, *numbers)
 
 
 def result_of(board, word, numbers):

@@ -3,28 +3,25 @@
 from mergelevels.below import best_path, height_of, is_path, join_grid, nested_below
 from mergelevels.bounds import LEVEL
 from mergelevels.errors import Contradictory
-from mergelevels.spanning import is_pair
-from mergelevels.tables import check_ends, find_fault, level_between, pairs_of
+from mergelevels.tables import check_ends, find_fault, is_pair, level_between, pairs_of
 
 
-def filled_row(row, level):
-    """Returns the row with a level in the place of the unknown ones; a value that is no row stays."""
+def closed_row(row):
+    """Returns the row with LEVEL at its unknown places; a value that is no row stays."""
     if not isinstance(row, tuple):
         return row
-    return tuple([level if part is None else part for part in row])
+    return tuple([LEVEL if level is None else level for level in row])
+
+
+def closed(table):
+    """Returns the open table with LEVEL at its unknown places."""
+    # A path over such a place is as high as a path can be: it is never lower than a known level.
+    return tuple([closed_row(row) for row in table])
 
 
 def find_open_fault(value):
     """Returns None if the value is an open table, otherwise its first fault as (path, reason)."""
-    if not isinstance(value, tuple):
-        return find_fault(value)
-    # An open table is a table as soon as some level stands at the unknown places.
-    return find_fault(tuple([filled_row(row, LEVEL) for row in value]))
-
-
-def closed(table):
-    """Returns the open table with LEVEL + 1 at its unknown places: a path is known if it is not so high."""
-    return tuple([filled_row(row, LEVEL + 1) for row in table])
+    return find_fault(closed(value) if isinstance(value, tuple) else value)
 
 
 def contradicted_pair(table):
@@ -70,7 +67,7 @@ def check_fillable(table):
 def greatest_filling(table):
     """Returns the filling in which all levels are as great as possible."""
     check_fillable(table)
-    return tuple([tuple([min(level, LEVEL) for level in row]) for row in nested_below(closed(table))])
+    return nested_below(closed(table))
 
 
 def least_level(table, one, other):

@@ -4,7 +4,7 @@ from mergelevels.below import detour_level, join_grid, level_grid, lowest_grid, 
 from mergelevels.bounds import LEVEL
 from mergelevels.errors import NotSpanning
 from mergelevels.groups import group_of, joins_of
-from mergelevels.tables import is_item, level_between, pairs_of
+from mergelevels.tables import is_pair, level_between, pairs_of
 
 
 def own_sets(members):
@@ -17,14 +17,6 @@ def united(names, one, other):
     old = names[one]
     new = names[other]
     return {member: new if names[member] == old else names[member] for member in names}
-
-
-def is_pair(table, value):
-    """Whether the value is a pair of items of the table."""
-    if not isinstance(value, tuple) or len(value) != 2:
-        return False
-    one, other = value
-    return is_item(table, one) and is_item(table, other) and one < other
 
 
 def connects_all(table, pairs):

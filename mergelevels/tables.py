@@ -20,6 +20,14 @@ def is_item(table, value):
     return is_whole(value) and 0 <= value < len(table)
 
 
+def is_pair(table, value):
+    """Whether the value is a pair of items of the table."""
+    if not isinstance(value, tuple) or len(value) != 2:
+        return False
+    one, other = value
+    return is_item(table, one) and is_item(table, other) and one < other
+
+
 def check_items(table, one, other):
     """Raises NoSuchItem for the first of two values that is not an item."""
     if not is_item(table, one):
